@@ -583,13 +583,21 @@ func systemOfWord(word string, n int) System {
 
 func parseNamedSystem(t string) (System, bool) {
 	word, digits, _ := strings.Cut(t, " ")
-	n, err := strconv.Atoi(digits)
-	// Atoi takes a plus sign and leading zeros, which no text of a system has.
-	if err != nil || strconv.Itoa(n) != digits {
+	n, ok := parseNumber(digits)
+	if !ok {
 		return System{}, false
 	}
 	s := systemOfWord(word, n)
 	return s, s.Size > 0
+}
+
+func parseNumber(digits string) (int, bool) {
+	n, err := strconv.Atoi(digits)
+	// Atoi takes a plus sign and leading zeros, which no number in a text has.
+	if err != nil || strconv.Itoa(n) != digits {
+		return 0, false
+	}
+	return n, true
 }
 
 func sameSystems(a System, b System) bool {
