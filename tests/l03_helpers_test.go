@@ -58,18 +58,26 @@ func found(t *testing.T, s impl.System, ctx [][]int, x impl.Term) finding {
 }
 
 // slowFind takes a term of the system s for granted. It is the table of the document, row by row.
-func slowFind(s impl.System, ctx [][]int, t impl.Term) (f finding) {
+func slowFind(s impl.System, ctx [][]int, t impl.Term) finding {
+	return slowTyper{s: s}.findAll(ctx, t)
+}
+
+// slowTyper has the tables of a system; a fault is thrown as a finding. If given is set, it tells the types and the
+// needs of the kids in place of the table.
+type slowTyper struct {
+	s     impl.System
+	given func(k int, ctx [][]int) ([]int, []int)
+}
+
+func (x slowTyper) findAll(ctx [][]int, t impl.Term) (f finding) {
 	defer func() {
 		if r := recover(); r != nil {
 			f = r.(finding)
 		}
 	}()
-	ty, needs := slowTyper{s}.find(ctx, t, nil)
+	ty, needs := x.find(ctx, t, nil)
 	return finding{ty: ty, needs: needs}
 }
-
-// slowTyper has the tables of a system; a fault is thrown as a finding.
-type slowTyper struct{ s impl.System }
 
 func (x slowTyper) plus(a, b int) int { return x.s.Plus[a*x.s.Size+b] }
 
@@ -108,7 +116,12 @@ func (x slowTyper) find(ctx [][]int, t impl.Term, path []int) ([]int, []int) {
 		}
 	}
 	kid := func(k int, added ...[]int) ([]int, []int, []int) {
-		ty, needs := x.find(slices.Concat(added, ctx), t.Kids[k], append(slices.Clone(path), k))
+		inKid := slices.Concat(added, ctx)
+		if x.given != nil {
+			ty, needs := x.given(k, inKid)
+			return ty, needs[:len(added)], needs[len(added):]
+		}
+		ty, needs := x.find(inKid, t.Kids[k], append(slices.Clone(path), k))
 		return ty, needs[:len(added)], needs[len(added):]
 	}
 	short := func(ty []int) []int {

@@ -101,7 +101,7 @@ func (m *slowMachine) tell(q int, t impl.Term, env []int, then func(impl.Term)) 
 
 // slowRun takes a program for granted that may be run.
 func slowRun(s impl.System, t impl.Term) string {
-	m, text := slowMachine{slowTyper: slowTyper{s}}, "fails"
+	m, text := slowMachine{slowTyper: slowTyper{s: s}}, "fails"
 	m.tell(1, t, nil, func(told impl.Term) {
 		var cells []impl.Cell
 		for _, c := range m.cells {
@@ -114,7 +114,7 @@ func slowRun(s impl.System, t impl.Term) string {
 
 // slowEvaluate takes a term and values for granted that may be evaluated.
 func slowEvaluate(s impl.System, t impl.Term, values []impl.Term) string {
-	m, text := slowMachine{slowTyper: slowTyper{s}}, "fails"
+	m, text := slowMachine{slowTyper: slowTyper{s: s}}, "fails"
 	var env []int
 	for _, v := range values {
 		env = append([]int{m.cell(0, v, nil)}, env...)
