@@ -209,6 +209,28 @@ func (x slowTyper) find(ctx [][]int, t impl.Term, path []int) ([]int, []int) {
 	panic("an unknown Op")
 }
 
+// slowAdded returns the types of the variables that t adds for its kid k; where it needs the type of the first kid, that
+// is found anew.
+func slowAdded(s impl.System, ctx [][]int, t impl.Term, k int) [][]int {
+	typeOfFirst := func() []int { return slowFind(s, ctx, t.Kids[0]).ty }
+	switch {
+	case t.Op == impl.TmFun:
+		return [][]int{t.Type}
+	case t.Op == impl.TmSplit && k == 1:
+		first, second := slowParts(typeOfFirst())
+		return [][]int{second, first}
+	case t.Op == impl.TmCase && k == 1:
+		left, _ := slowParts(typeOfFirst())
+		return [][]int{left}
+	case t.Op == impl.TmCase && k == 2:
+		_, right := slowParts(typeOfFirst())
+		return [][]int{right}
+	case t.Op == impl.TmOpen && k == 1:
+		return [][]int{typeOfFirst()[1:]}
+	}
+	return nil
+}
+
 // typedMaker makes terms that have a type, or nearly so.
 type typedMaker struct {
 	r *rand.Rand

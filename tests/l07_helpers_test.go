@@ -82,28 +82,15 @@ func slowErasedText(s impl.System, view []int, ctx [][]int, t impl.Term) string 
 	typeOf := func(x impl.Term) []int { return slowFind(s, ctx, x).ty }
 	var kids []string
 	for k, kid := range t.Kids {
-		added, seen := [][]int{}, true
+		seen := true
 		switch {
-		case t.Op == impl.TmFun:
-			added = [][]int{t.Type}
-		case t.Op == impl.TmSplit && k == 1:
-			first, second := slowParts(typeOf(t.Kids[0]))
-			added = [][]int{second, first}
-		case t.Op == impl.TmCase && k == 1:
-			left, _ := slowParts(typeOf(t.Kids[0]))
-			added = [][]int{left}
-		case t.Op == impl.TmCase && k == 2:
-			_, right := slowParts(typeOf(t.Kids[0]))
-			added = [][]int{right}
-		case t.Op == impl.TmOpen && k == 1:
-			added = [][]int{typeOf(t.Kids[0])[1:]}
 		case t.Op == impl.TmBox:
 			seen = slices.Contains(view, t.N)
 		case t.Op == impl.TmApp && k == 1:
 			seen = slices.Contains(view, typeOf(t.Kids[0])[0]-3)
 		}
 		if seen {
-			kids = append(kids, slowErasedText(s, view, slices.Concat(added, ctx), kid))
+			kids = append(kids, slowErasedText(s, view, slices.Concat(slowAdded(s, ctx, t, k), ctx), kid))
 		} else {
 			kids = append(kids, slowDefault(typeOf(kid)))
 		}

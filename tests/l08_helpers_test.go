@@ -124,25 +124,8 @@ func slowCheck(s impl.System, l []impl.Judgment) int {
 func slowDerive(s impl.System, ctx [][]int, t impl.Term) []impl.Judgment {
 	var l []impl.Judgment
 	var from []int
-	typeOfFirst := func() []int { return slowFind(s, ctx, t.Kids[0]).ty }
 	for k, kid := range t.Kids {
-		var added [][]int
-		switch {
-		case t.Op == impl.TmFun:
-			added = [][]int{t.Type}
-		case t.Op == impl.TmSplit && k == 1:
-			first, second := slowParts(typeOfFirst())
-			added = [][]int{second, first}
-		case t.Op == impl.TmCase && k == 1:
-			left, _ := slowParts(typeOfFirst())
-			added = [][]int{left}
-		case t.Op == impl.TmCase && k == 2:
-			_, right := slowParts(typeOfFirst())
-			added = [][]int{right}
-		case t.Op == impl.TmOpen && k == 1:
-			added = [][]int{typeOfFirst()[1:]}
-		}
-		for _, j := range slowDerive(s, slices.Concat(added, ctx), kid) {
+		for _, j := range slowDerive(s, slices.Concat(slowAdded(s, ctx, t, k), ctx), kid) {
 			for n := range j.From {
 				j.From[n] += nextIndex(from)
 			}

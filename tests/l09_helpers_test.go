@@ -461,3 +461,9 @@ func madeOpenTerms(t *testing.T, name string, count, fuel, chance int, each func
 		}
 	}
 }
+
+// nested puts a text in place of the bar of another one, so many times.
+func nested(times int, around, within string) string {
+	before, behind, _ := strings.Cut(around, "|")
+	return strings.Repeat(before, times) + within + strings.Repeat(behind, times)
+}

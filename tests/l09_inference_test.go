@@ -348,11 +348,6 @@ func TestInferOnePlaceOfMany(t *testing.T) {
 // TestInferLongTerms has terms of 400 nodes, or nearly so, with places that many others wait for, or are one with.
 func TestInferLongTerms(t *testing.T) {
 	s := impl.BoundSystem(14)
-	// nest puts a text in place of the bar of another one, so many times.
-	nest := func(times int, around, within string) string {
-		before, behind, _ := strings.Cut(around, "|")
-		return strings.Repeat(before, times) + within + strings.Repeat(behind, times)
-	}
 	with := func(g, text string) string { return strings.ReplaceAll(text, "?", g) }
 	one, two := "open:1(box:?(x0),|)", "open:1(box:?(add(x0,x0)),|)"
 	first, second := "if(0,|,fun:?:n(x0))", "if(0,fun:?:n(x0),|)"
@@ -361,21 +356,21 @@ func TestInferLongTerms(t *testing.T) {
 	// What is used doubles from the inside on: 1, 2, 4 and 8, and many from there.
 	four := "open:1(box:8(add(x0,x0)),open:1(box:4(add(x0,x0)),open:1(box:2(add(x0,x0)),open:1(box:1(add(x0,x0)),x0))))"
 	for name, c := range map[string]inference{
-		"all 1":   {nest(132, one, "x0"), with("1", nest(132, one, "x0"))},
-		"all 2":   {nest(131, one, "add(x0,x0)"), with("2", nest(131, one, "add(x0,x0)"))},
-		"all 0":   {nest(132, one, "0"), with("0", nest(132, one, "0"))},
-		"doubled": {nest(79, two, "x0"), with("15", nest(75, two, four))},
-		"first":   {nest(98, first, "fun:?:n(add(x0,x1))"), with("1", nest(98, first, "fun:?:n(add(x0,x1))"))},
-		"second":  {nest(98, second, "fun:?:n(add(x0,x0))"), with("2", nest(98, second, "fun:?:n(add(x0,x0))"))},
-		"known":   {nest(98, first, "fun:9:n(add(x0,x1))"), with("9", nest(98, first, "fun:9:n(add(x0,x1))"))},
-		"sides":   {nest(98, side, with("7", last)), with("7", nest(98, side, last))},
+		"all 1":   {nested(132, one, "x0"), with("1", nested(132, one, "x0"))},
+		"all 2":   {nested(131, one, "add(x0,x0)"), with("2", nested(131, one, "add(x0,x0)"))},
+		"all 0":   {nested(132, one, "0"), with("0", nested(132, one, "0"))},
+		"doubled": {nested(79, two, "x0"), with("15", nested(75, two, four))},
+		"first":   {nested(98, first, "fun:?:n(add(x0,x1))"), with("1", nested(98, first, "fun:?:n(add(x0,x1))"))},
+		"second":  {nested(98, second, "fun:?:n(add(x0,x0))"), with("2", nested(98, second, "fun:?:n(add(x0,x0))"))},
+		"known":   {nested(98, first, "fun:9:n(add(x0,x1))"), with("9", nested(98, first, "fun:9:n(add(x0,x1))"))},
+		"sides":   {nested(98, side, with("7", last)), with("7", nested(98, side, last))},
 		// What is needed of the box ahead of all is told by the one behind all.
 		"far": {
-			"app(fun:?:n(open:1(" + nest(97, "if(0,box:?(0),|)", "box:?(x0)") + ",add(x0,x0))),1)",
-			with("2", "app(fun:?:n(open:1("+nest(97, "if(0,box:?(0),|)", "box:?(x0)")+",add(x0,x0))),1)"),
+			"app(fun:?:n(open:1(" + nested(97, "if(0,box:?(0),|)", "box:?(x0)") + ",add(x0,x0))),1)",
+			with("2", "app(fun:?:n(open:1("+nested(97, "if(0,box:?(0),|)", "box:?(x0)")+",add(x0,x0))),1)"),
 		},
-		"ahead":   {"if(0," + with("7", last) + "," + nest(97, side, last) + ")", with("7", nest(98, side, last))},
-		"no such": {nest(98, side, "left:"+strings.Repeat("!?.", 34)+"*nn(0)"), ""},
+		"ahead":   {"if(0," + with("7", last) + "," + nested(97, side, last) + ")", with("7", nested(98, side, last))},
+		"no such": {nested(98, side, "left:"+strings.Repeat("!?.", 34)+"*nn(0)"), ""},
 	} {
 		want := "fails"
 		if c.want != "" {
@@ -386,7 +381,7 @@ func TestInferLongTerms(t *testing.T) {
 		}
 	}
 	// Here nothing but the length of the type is wrong.
-	if got := inferred(t, s, parsed(t, nest(399, "fun:?:"+strings.Repeat("!?.", 39)+"n(|)", "0"))); got != "fails" {
+	if got := inferred(t, s, parsed(t, nested(399, "fun:?:"+strings.Repeat("!?.", 39)+"n(|)", "0"))); got != "fails" {
 		t.Errorf("InferGrades of many places is %.80s", got)
 	}
 }
