@@ -457,7 +457,8 @@ func TestShowLines(t *testing.T) {
 	checkErrors(t, "bound 2||0", "show ", " show", "show 1", "Show", "show\n", "sho", "shows", "show show", "showx")
 }
 
-// TestOtherLines has all lines that differ by one byte from one that there is, or are put together from parts of some.
+// TestOtherLines has lines that differ by one byte, from a choice of bytes, from one that there is, or are put together
+// from parts of some.
 func TestOtherLines(t *testing.T) {
 	x := sessionOf(t, richSession)
 	var lines []string
